@@ -245,23 +245,52 @@ func vectorMachine(t *testing.T, ahead string, behind string) impl.Machine {
 	return m
 }
 
-// One access touches the frame of its place alone; the other frame comes in as it was at first, although it has been
-// written to, and is as the guest's when it is written to again.
-func TestAFrameThatWasWrittenToAheadOfItsTouch(t *testing.T) {
+// One access touches the frame of its place alone; what it puts into the other frame stands in the host as soon as that
+// one is touched, by whatever access, although the frame is not dirty by it.
+func TestP13OfAFrameThatWasWrittenToAheadOfItsTouch(t *testing.T) {
 	m := vectorMachine(t, "addi r1, r1, 1", "load r3, r0, 512\nload r3, r0, 768\nstore r3, r0, 768\nstore r1, r0, 600")
 	got := checkNested(t, "its write", m, 2, []int64{0, 1}, []int64{1})
 	checkNumbers(t, "what it wrote", []int64{wordAt(got.Machine.Mem, 508), wordAt(got.Machine.Mem, 512)}, []int64{2, 3})
-	checkNumber(t, "what the guest reads there", runIn(sampleNest(m), m, 3).Machine.Regs[3], 3)
-	for steps := int64(3); steps <= 5; steps++ {
+	for steps, c := range []struct{ touched, dirty []int64 }{
+		3: {[]int64{0, 1, 2}, []int64{1}}, 4: {[]int64{0, 1, 2, 3}, []int64{1}},
+		5: {[]int64{0, 1, 2, 3}, []int64{1, 3}}, 6: {[]int64{0, 1, 2, 3}, []int64{1, 2, 3}},
+	} {
+		if steps < 3 {
+			continue
+		}
 		what := fmt.Sprintf("behind %d steps", steps)
-		got = runIn(sampleNest(m), m, steps)
-		want, _ := plainNestedRun(sampleNest(m), m, steps)
-		checkNestedRun(t, what, got, want)
-		checkText(t, what+": guest's frame 1", frameIn(got.Host, mappedIn(got.Host, 2, 1)), frameIn(got.Machine.Mem, 1))
-		checkText(t, what+": guest's frame 2", frameIn(got.Host, mappedIn(got.Host, 2, 2)), frameIn(m.Mem, 2))
+		got = checkNested(t, what, m, int64(steps), c.touched, c.dirty)
+		checkNumbers(t, what+": what the host has", hostWords(got, 2, 504, 508, 512, 516), []int64{1, 2, 3, 4})
+		checkText(t, what+": the rest", frameIn(got.Host, mappedIn(got.Host, 2, 2))[92:], frameIn(m.Mem, 2)[92:])
 	}
-	got = checkNested(t, "written to again", m, 6, []int64{0, 1, 2, 3}, []int64{1, 2, 3})
-	checkBehind(t, "written to again", sampleNest(m), got)
+	checkNumber(t, "what the guest reads there", runIn(sampleNest(m), m, 3).Machine.Regs[3], 3)
+}
+
+// Each kind of access may be the first that touches the other frame, and so may a fetch and a lookup.
+func TestP13OfEachTouchBehindItsWrite(t *testing.T) {
+	for text, dirty := range map[string][]int64{
+		"load r3, r0, 600": {1}, "loadb r3, r0, 515": {1}, "vload v2, r4": {1}, "jump r5, r4, 0": {1},
+		"store r1, r4, 24": {1, 2}, "storeb r1, r4, 3": {1, 2}, "vstore v2, r4": {1, 2},
+		"fadd r1, r4, r3": {1, 2}, "swap r1, r4, r3": {1, 2}, "ifsame r1, r4, r3": {1, 2},
+	} {
+		m := vectorMachine(t, "addi r1, r1, 1", text+"\nhalt")
+		m.Regs[4] = 512
+		checkNested(t, text, m, 4, []int64{0, 1, 2}, dirty)
+	}
+	m := vectorMachine(t, "addi r1, r1, 1", "putc r4, 0\nhalt")
+	m.Mem = withEntries(m.Mem, tableEntry{3, 0, 2, flagV})
+	m.Ctl[impl.CtlTable], m.Regs[4] = 3, impl.StatusPaged|impl.StatusVec
+	m.Vec[6], m.Vec[7] = flagV|flagR|flagX|flagA, 256|flagV|flagR
+	checkNested(t, "a table", m, 4, []int64{0, 1, 3, 2}, []int64{1})
+}
+
+// hostWords are the words at the guest's addresses, as the host has them behind its table root.
+func hostWords(got impl.NestedRun, root int64, addresses ...int64) []int64 {
+	var words []int64
+	for _, at := range addresses {
+		words = append(words, wordAt(got.Host, 256*mappedIn(got.Host, root, at/256)+at%256))
+	}
+	return words
 }
 
 func TestAFrameThatWasTouchedAheadOfItsWrite(t *testing.T) {
