@@ -158,17 +158,29 @@ func NextBit(set string, from int64, on bool) int64 {
 	return max(first, setSize(set))
 }
 
+// mixStart, mixOn and mixEnd are Mix in its parts, so that texts that begin alike go on from one sum.
+func mixStart(seed int64) int64 {
+	// Go's remainder of a seed below 0 is below 0 itself; one more MixPrime lifts it.
+	return (seed%MixPrime+MixPrime)%MixPrime + 1
+}
+
+func mixOn(sum int64, data string) int64 {
+	for i := range len(data) {
+		sum = (sum*65599 + int64(data[i]) + 1) % MixPrime
+	}
+	return sum
+}
+
+func mixEnd(sum int64) int64 {
+	return (sum*40503 + 77) % MixPrime
+}
+
 // Mix: see chapter 2.
 func Mix(data string, seed int64) int64 {
 	if tooLong(data) {
 		return 0
 	}
-	// Go's remainder of a seed below 0 is below 0 itself; one more MixPrime lifts it.
-	sum := (seed%MixPrime+MixPrime)%MixPrime + 1
-	for i := range len(data) {
-		sum = (sum*65599 + int64(data[i]) + 1) % MixPrime
-	}
-	return (sum*40503 + 77) % MixPrime
+	return mixEnd(mixOn(mixStart(seed), data))
 }
 
 // Hex: see chapter 2.
