@@ -21,3 +21,13 @@ const (
 func tooLong(text string) bool {
 	return len(text) > MaxBytes
 }
+
+// areRising stands apart from the layers because more than one has such lists.
+func areRising(numbers []int64, isOne func(n int64) bool) bool {
+	for at, n := range numbers {
+		if !isOne(n) || at > 0 && n <= numbers[at-1] {
+			return false
+		}
+	}
+	return true
+}
