@@ -1,5 +1,7 @@
 package impl
 
+import "cmp"
+
 // Codes and limits, see chapter 1.
 const (
 	OK          = 0
@@ -23,9 +25,9 @@ func tooLong(text string) bool {
 }
 
 // areRising stands apart from the layers because more than one has such lists.
-func areRising(numbers []int64, isOne func(n int64) bool) bool {
-	for at, n := range numbers {
-		if !isOne(n) || at > 0 && n <= numbers[at-1] {
+func areRising[T cmp.Ordered](items []T, isOne func(item T) bool) bool {
+	for at, item := range items {
+		if !isOne(item) || at > 0 && item <= items[at-1] {
 			return false
 		}
 	}
